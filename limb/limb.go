@@ -144,8 +144,9 @@ func Div(a, m api.Nat) (quotient, rest api.Nat, e api.Errno) {
 	if m == (api.Nat{}) {
 		return api.Nat{}, api.Nat{}, api.ErrZero
 	}
-	for i := range size {
-		at := size - 1 - i
+	n := Len(a)
+	for i := range n {
+		at := n - 1 - i
 		var fits uint64
 		rest, fits = bring(rest, Bit(a, at), m)
 		quotient[at/64] |= fits << (at % 64)
