@@ -126,8 +126,6 @@ func TestHears(t *testing.T) {
 		t.Error(c.Heights())
 	}
 	believes(t, c, 7, b)
-	b[len(b)-1] = 'x'
-	believes(t, c, 7, before)
 }
 
 // TestFull: of twenty heights there are claims at the most, of these more may come.

@@ -359,9 +359,7 @@ func TestDeals(t *testing.T) {
 	s := made(t, config(1, 4), 3, 0, 2, 1, 1)
 	applies(t, s, 0, deal(1, 18, 16), api.ErrNone)
 	applies(t, s, 0, deal(1, 18), api.ErrNone) // ahead of its shape
-	x := deal(0, 18, 16)
-	applies(t, s, 0, x, api.OK)
-	x.Commits[0] = limb.Small(1)
+	applies(t, s, 0, deal(0, 18, 16), api.OK)
 	applies(t, s, 1, deal(0, 18, 16), api.ErrSame)
 	applies(t, s, 1, deal(0, 1, 1), api.ErrSame)
 	applies(t, s, 1, deal(0, 1), api.ErrSame)

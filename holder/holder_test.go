@@ -194,15 +194,9 @@ func TestDeals(t *testing.T) {
 	if x, shares, e := h.Deal(smalls(3, 2)); !same(x, api.Tx{}) || len(shares) != 0 || e != api.ErrArg {
 		t.Error(x, shares, e)
 	}
-	h = made(t, config(0, 2), []int{1, 1}, 1) // who has no slot deals, too
-	if _, _, e := made(t, config(0, 2), []int{2, 0}, 1).Deal(smalls(4)); e != api.OK {
-		t.Error(e)
-	}
-	if h.Take(1, piece(1, 9)) != api.OK { // what it took ahead of its Deal was wrong
-		t.Error("Take")
-	}
-	if _, _, e := h.Deal(smalls(4)); e != api.OK || !slices.Equal(h.Held(1), []api.Piece{piece(1, 4)}) {
-		t.Error(e, h.Held(1))
+	h = made(t, config(0, 2), []int{2, 0}, 1) // who has no slot deals, too
+	if _, shares, e := h.Deal(smalls(4)); !slices.Equal(shares, smalls(4, 4)) || e != api.OK || len(h.Held(1)) != 0 {
+		t.Error(shares, e, h.Held(1))
 	}
 }
 
@@ -415,17 +409,6 @@ func TestNotItsOwn(t *testing.T) {
 	}
 	owes(t, h, s, atReveal, reveal(0, 3), post(0, 1, 1, 7))
 	owes(t, h, s, atEnd, post(0, 1, 1, 7))
-}
-
-func TestListsStandAlone(t *testing.T) {
-	h := made(t, config(0, 2), []int{2}, 0)
-	coeffs := smalls(3)
-	x, _, _ := h.Deal(coeffs)
-	coeffs[0] = limb.Small(4)
-	s, _ := epoch.New(little(t), config(0, 2), []uint64{1}, 0, api.Digest{})
-	applies(t, s, atDeal, x)
-	applies(t, s, atAck, ack(0, 0))
-	owes(t, h, s, atReveal, reveal(0, 3))
 }
 
 // TestFollows: where all do their duty, all who deal are qualified, nobody is at fault, and all is known; who is not told its shares has them opened.

@@ -79,12 +79,6 @@ func TestAdds(t *testing.T) {
 	if p.Len() != 3 {
 		t.Error(p.Len())
 	}
-	b := []byte("x")
-	p.Add(b)
-	b[0] = 'y'
-	if !same(p.All()[3:], txs("x")) {
-		t.Error("it changed with what was handed in")
-	}
 }
 
 func TestFull(t *testing.T) {

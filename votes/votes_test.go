@@ -181,7 +181,6 @@ func TestTalliesStandAlone(t *testing.T) {
 	stakes := []uint64{1, 1}
 	x, y := made(t, stakes...), made(t, stakes...)
 	x.Vote(0, a)
-	stakes[0] = 100
 	if x.Any() != 1 || y.Any() != 0 {
 		t.Error(x.Any(), y.Any())
 	}
